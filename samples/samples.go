@@ -60,7 +60,7 @@ func Padded() api.Locale {
 	return api.Locale{
 		Tag:   "x-Pad-1",
 		S:     api.Sym{Zero: '0', Dec: '.', Group: '\'', Minus: '~', Plus: '+', Percent: '%', Exp: 'e'},
-		Pats:  [4]string{"*_@@###;-@@###", "<*x@@%", "0.00#E+00*_ abc", "[¤] ####,##0.0 '%%'*!"},
+		Pats:  [4]string{"*_@@###;-@@###", "<*x@@#%", "0.00#E+00*_ abc", "[¤] ####,##0.0 '%%'*!"},
 		Curs:  []api.Cur{{Code: "AAA", Sign: "a"}, {Code: "AAB", Sign: "a&b", Digits: 4}, {Code: "ZZZ", Sign: "a b c d f g h i j k", Digits: 1}},
 		Comps: []api.Comp{{Mag: 2, Cat: api.Other, Pat: "0t"}, {Mag: 3, Cat: api.Other, Pat: "h00"}, {Mag: 30, Cat: api.Other, Pat: "0^"}},
 	}
