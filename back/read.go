@@ -24,11 +24,11 @@ type option struct {
 
 // style is the pattern of a request's style.
 func style(l api.Locale, q api.Req) api.Pat {
-	style := q.Style
-	if style == api.Compact {
-		style = api.Decimal
+	which := q.Style
+	if which == api.Compact {
+		which = api.Decimal
 	}
-	p, _ := loc.Pattern(l.S, style, l.Pats[style])
+	p, _ := loc.Pattern(l.S, which, l.Pats[which])
 	return p
 }
 

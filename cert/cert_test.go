@@ -93,6 +93,17 @@ func TestOf(t *testing.T) {
 	}
 }
 
+// P20.1: each sign's is looked at.
+func TestOfSigns(t *testing.T) {
+	for text, most := range map[string]int{"0": 1, "abc0;x0": 4, "abc0;xxxxxxx0": 7, "abc0d;-0": 4, "0;-(0)": 3, "ab0cd;x-0": 4} {
+		l := samples.Latin()
+		l.Pats[0], l.Comps = text, nil
+		if c := cert.Of(l); c.Around[0] != most || c.Around[4] != most {
+			t.Error(text, c.Around)
+		}
+	}
+}
+
 // P20.1: it is the most of all that may stand around, told once more.
 func TestOfModel(t *testing.T) {
 	for _, l := range samples.All() {

@@ -254,6 +254,7 @@ func TestCheckConfused(t *testing.T) {
 		{func(l *api.Locale) { l.Comps[5].Pat, l.Comps[3].Pat = "0 thousands", "00 thousands" }, 7, 3}, {func(l *api.Locale) { l.Comps[4].Pat = "thousands0" }, 0, 0},
 		// With the Decimal pattern.
 		{func(l *api.Locale) { l.Pats[0] = "0 millions" }, 7, 4}, {func(l *api.Locale) { l.Pats[0] = "0 thousand" }, 7, 1}, {func(l *api.Locale) { l.Pats[0] = "0 thousands" }, 7, 0}, {func(l *api.Locale) { l.Pats[0] = "0 xyz" }, 0, 0},
+		{func(l *api.Locale) { l.Pats[0] = "0t"; l.Comps = []api.Comp{{Mag: 2, Pat: "0t"}} }, 7, 0}, {func(l *api.Locale) { l.Pats[0] = "0t"; l.Comps = []api.Comp{{Mag: 3, Pat: "00t"}} }, 7, 0}, {func(l *api.Locale) { l.Pats[0] = "0"; l.Comps = []api.Comp{{Mag: 2, Pat: "0t"}, {Mag: 3, Pat: "00t"}} }, 0, 0},
 		// A minus that another one has as a rune of its own: at another power, and at its own one.
 		{func(l *api.Locale) { l.Comps[0].Pat = "'-'0 millions" }, 7, 4}, {func(l *api.Locale) { l.Comps[1].Pat = "'-'0 thousands" }, 7, 1}, {func(l *api.Locale) { l.Comps[0].Pat = "'-'0" }, 7, 0}, {func(l *api.Locale) { l.Comps[0].Pat = "'--'0" }, 0, 0},
 		{func(l *api.Locale) { l.Pats[0] = "0;x0"; l.Comps[0].Pat = "x0" }, 7, 0}, {func(l *api.Locale) { l.Pats[0] = "0;x0"; l.Comps[0].Pat = "'-'0" }, 0, 0},

@@ -195,7 +195,7 @@ func TestApart(t *testing.T) {
 	p, _ := pack.Put(b, 1, 1)
 	q, _ := pack.Put(b, 2, 1)
 	r, _ := pack.PutPool(b, []string{"x"})
-	if p[1] != 1 || q[1] != 2 || r[1] != 0 || b[:2][1] != 0 {
+	if p[1] != 1 || q[1] != 2 || r[1] != 0 || b[:2][1] != 0 || b[:3][2] != 0 {
 		t.Error(p, q, r)
 	}
 	l := []string{"a", "b"}

@@ -164,7 +164,7 @@ func TestPads(t *testing.T) {
 func TestErrors(t *testing.T) {
 	latin := samples.Latin()
 	figures := samples.Latin()
-	figures.Pats[0] = "@@"
+	figures.Pats[0], figures.Pats[1] = "@@", "@@%"
 	for _, x := range []struct {
 		l api.Locale
 		q api.Req
@@ -172,6 +172,7 @@ func TestErrors(t *testing.T) {
 		e api.Errno
 	}{
 		{latin, api.Req{Style: api.Percent}, "1e999", api.ErrFull}, {latin, api.Req{Style: api.Percent}, "1e1000", api.ErrFull}, {latin, api.Req{Style: api.Percent}, "1e998", api.OK}, {latin, api.Req{Style: api.Scientific}, "9999999999e991", api.ErrFull}, {latin, api.Req{Style: api.Scientific}, "12345678901e997", api.ErrArg}, {latin, api.Req{Style: 3, Code: "GBP"}, "1e1000", api.ErrReq}, {latin, api.Req{Style: api.Percent, Mode: 8}, "1e1000", api.ErrReq},
+		{figures, api.Req{Style: api.Percent}, "123e998", api.ErrArg}, {figures, api.Req{Style: api.Percent}, "999e996", api.ErrFull}, {figures, api.Req{Style: api.Percent}, "99e998", api.OK},
 		{figures, api.Req{}, "123e1000", api.ErrArg}, {figures, api.Req{}, "999e998", api.ErrFull}, {figures, api.Req{}, "99e1000", api.OK}, {latin, api.Req{}, "1e1000", api.OK}, {latin, api.Req{Style: api.Compact}, "1e1000", api.OK}, {latin, api.Req{Style: api.Compact}, "7e-1000", api.OK},
 	} {
 		d := read(t, x.d)

@@ -121,8 +121,7 @@ func TestParts(t *testing.T) {
 
 // R3: two tanks of one don't see what is put into the other.
 func TestApart(t *testing.T) {
-	a, _ := tank.New(9, 9)
-	a, _ = tank.Put(a, 'x')
+	a := api.Tank{Fuel: 9, Room: 9, Out: append(make([]rune, 0, 50), 'x')}
 	b, _ := tank.Put(a, 'b')
 	c, _ := tank.Put(a, 'c')
 	d, _ := tank.Burn(a, 1)
