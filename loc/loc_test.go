@@ -142,9 +142,6 @@ func TestShort(t *testing.T) {
 			t.Error(c, loc.Power(c, p))
 		}
 	}
-	if loc.Power(api.Comp{Mag: 3}, api.Pat{MinInt: 5}) != -2 {
-		t.Error("below 0")
-	}
 }
 
 // P15.2, P15.3: good locales.
